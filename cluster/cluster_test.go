@@ -58,6 +58,9 @@ func usual() cluster.Config {
 
 const usualFront = 4 // the front's box and number in a usual one
 
+// otherAsk: the n-th ask, from 1 on, of what is no operation.
+func otherAsk(n int) int { return 1<<60 + 2*n }
+
 func made(t *testing.T, config cluster.Config) *cluster.Cluster {
 	t.Helper()
 	c, e := cluster.New(config)

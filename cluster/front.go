@@ -83,9 +83,9 @@ func (c *Cluster) Tick() {
 
 // operate: an operation begins.
 func (c *Cluster) operate(op Op) (int, *operation) {
-	ask := c.newAsk()
-	c.ops[ask] = &operation{Op: op, deadline: c.now + c.config.Wait, sent: map[int]int{}}
-	return ask, c.ops[ask]
+	c.asked += askStep
+	c.ops[c.asked] = &operation{Op: op, deadline: c.now + c.config.Wait, sent: map[int]int{}}
+	return c.asked, c.ops[c.asked]
 }
 
 func (o *operation) finish(e api.Errno) {
@@ -166,7 +166,7 @@ func (c *Cluster) fetched(m msg.Msg) {
 	o.Set = whole
 	o.finish(e)
 	for _, who := range lacking {
-		c.tell(who, msg.Msg{Kind: msg.Store, Ask: c.newAsk(), Row: rowOf(o.Key, whole)})
+		c.tell(who, msg.Msg{Kind: msg.Store, Ask: c.otherAsk(), Row: rowOf(o.Key, whole)})
 	}
 }
 

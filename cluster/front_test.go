@@ -333,14 +333,14 @@ func TestGetAcks(t *testing.T) {
 	want := cluster.Op{Key: key, Done: true, Set: setOf(b, newer), Acks: []int{walk[1], walk[0], walk[2]}}
 	is(t, "Done", c, 2, want)
 	for i, r := range []int{walk[1], walk[0], walk[2]} { // all lack something
-		waits(t, "repair", c, r, msg.Msg{Kind: msg.Store, From: 4, Ask: 8 + 2*i, Row: row(key, b, newer)})
+		waits(t, "repair", c, r, msg.Msg{Kind: msg.Store, From: 4, Ask: otherAsk(i + 1), Row: row(key, b, newer)})
 	}
 	clear(c)
 	hears(t, "late", c, fetched(walk[0], 2, key, one(at(4, 1), "d")), api.OK)
 	is(t, "late", c, 2, want)
 	is(t, "another one", c, 6, cluster.Op{Key: key})
 	empty(t, "late", c)
-	gets(t, c, key, 14)
+	gets(t, c, key, 8) // the repairs' asks are no operations'
 }
 
 // P26.1: a Get is Done with R answers, not ahead and not behind; of one Dot the first one's sibling is told.
@@ -370,7 +370,7 @@ func TestR(t *testing.T) {
 		for i := range 3 { // it was asked; then, if its answer is another one, it is told
 			want := []msg.Msg{{Kind: msg.Fetch, From: 4, Ask: 2, Row: msg.Row{Key: key}}}
 			if i > 0 && i < r {
-				want = append(want, msg.Msg{Kind: msg.Store, From: 4, Ask: 2 + 2*i, Row: row(key, first)})
+				want = append(want, msg.Msg{Kind: msg.Store, From: 4, Ask: otherAsk(i), Row: row(key, first)})
 			}
 			waits(t, "repair", c, walk[2-i], want...)
 		}
@@ -405,12 +405,12 @@ func TestRepair(t *testing.T) {
 	has(t, "repaired", c, walk[0], key, s)
 	has(t, "not asked", c, walk[2], key)
 	seen := c.Net().Seen(usualFront)
-	if m, _ := msg.Read(seen[len(seen)-1]); m.Kind != msg.Stored || m.Ask != 8 || m.From != walk[0] {
+	if m, _ := msg.Read(seen[len(seen)-1]); m.Kind != msg.Stored || m.Ask != otherAsk(1) || m.From != walk[0] {
 		t.Errorf("the last message is %+v, want that the repair is kept", m)
 	}
-	gets(t, c, key, 10) // 8 was the repair's
-	_, e := c.Op(8)
+	_, e := c.Op(otherAsk(1))
 	tells(t, "a repair's ask", e, api.ErrMiss)
+	gets(t, c, key, 8)
 }
 
 // P26.1: what comes too late is neither kept nor repaired by.
@@ -589,7 +589,7 @@ func TestOperationsApart(t *testing.T) {
 	hears(t, "Fetched", c, fetched(walk[1], 6, key, a), api.OK)
 	is(t, "Done", c, 8, cluster.Op{Key: key, Done: true, Acks: []int{walk[2], walk[0]}, Set: setOf(b)})
 	is(t, "Done", c, 6, cluster.Op{Key: key, Done: true, Acks: walk[:2], Set: setOf(a)})
-	waits(t, "repair", c, walk[0], msg.Msg{Kind: msg.Store, From: 4, Ask: 10, Row: row(key, b)})
+	waits(t, "repair", c, walk[0], msg.Msg{Kind: msg.Store, From: 4, Ask: otherAsk(1), Row: row(key, b)})
 }
 
 // P26.6: what is handed in isn't kept or changed, its spare room neither; answers are new memory.
@@ -614,9 +614,11 @@ func TestMemory(t *testing.T) {
 	c.Settle()
 	for _, ask := range []int{2, 4} {
 		o, _ := c.Op(ask)
-		is(t, "Op", c, ask, o)
-		was, _ := c.Op(ask)
+		was := o
+		was.Set, was.Acks = setOf(one(at(1, 5), "body", at(2, 3), at(3, 7))), slices.Clone(o.Acks)
+		is(t, "Op", c, ask, was)
 		o.Set[0].Body[0], o.Set[0].Past.More[0], o.Acks[0] = 'X', at(9, 9), 77
+		is(t, "Op is spoilt", c, ask, was)
 		o.Set[0].Dot = at(8, 8)
 		is(t, "Op is spoilt", c, ask, was)
 	}

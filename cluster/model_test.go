@@ -27,7 +27,8 @@ type model struct {
 	boxes    [][][]byte
 	seen     [][][]byte
 	ops      map[int]*modelOp
-	last     int
+	last     int // ask of an operation
+	others   int // that were begun: what is no operation
 	now      int
 }
 
@@ -195,8 +196,8 @@ func (m *model) fetched(o *modelOp, from int, set []sibling.Sibling) {
 	}
 	lacking, _ := repair.Lacking(o.answers)
 	for _, r := range lacking {
-		m.last += 2
-		m.tell(r, msg.Msg{Kind: msg.Store, Ask: m.last, Row: row(o.op.Key, o.op.Set...)})
+		m.others++
+		m.tell(r, msg.Msg{Kind: msg.Store, Ask: otherAsk(m.others), Row: row(o.op.Key, o.op.Set...)})
 	}
 }
 
@@ -253,19 +254,19 @@ func (m *model) first(a, b int, hint bool) api.Errno {
 	switch {
 	case !m.has(a) || !m.has(b) || a == b:
 		return api.ErrArg
-	case m.down[a]:
-		return api.ErrDown
 	case hint && len(m.replicas[a].Shelf().Hints(b)) == 0:
 		return api.ErrMiss
 	case len(m.boxes[b]) == 64:
 		return api.ErrInbox
+	case m.down[a]:
+		return api.ErrDown
 	}
-	m.last += 2
+	m.others++
 	call := m.replicas[a].Begin
 	if hint {
 		call = m.replicas[a].Deliver
 	}
-	x, e := call(b, m.last)
+	x, e := call(b, otherAsk(m.others))
 	if e != api.OK {
 		return e
 	}
@@ -339,6 +340,9 @@ func drawnSibling(rng *rand.Rand) sibling.Sibling {
 // drawnMessage: of whoever to whoever, of asks that there are.
 func drawnMessage(rng *rand.Rand, m *model) []byte {
 	x := msg.Msg{From: rng.IntN(m.c.Replicas + 1), Ask: max(0, m.last-rng.IntN(20)), For: rng.IntN(m.c.Replicas), Row: msg.Row{Key: drawnKey(rng)}}
+	if rng.IntN(3) == 0 {
+		x.Ask = otherAsk(m.others) - rng.IntN(20)
+	}
 	x.Kind = []int{msg.Store, msg.Stored, msg.Stored, msg.Fetch, msg.Fetched, msg.Fetched, msg.Hold, msg.Nodes, msg.Rows, msg.Rows, msg.Rows}[rng.IntN(11)]
 	if rng.IntN(20) == 0 {
 		x.From = 8

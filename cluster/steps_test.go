@@ -399,11 +399,11 @@ func TestCrash(t *testing.T) {
 	has(t, "Crash", c, r, key, a)
 	holds(t, "Crash", c, r, whom, key)
 	clear(c)
-	sends(t, c, r, stored(whom, 2, api.OK)) // of the delivery: it isn't under way any more
+	sends(t, c, r, stored(whom, otherAsk(1), api.OK)) // of the delivery: it isn't under way any more
 	delivers(t, "Stored", c, r, api.OK)
 	holds(t, "Stored", c, r, whom, key)
 	c.Up(walk[2], false)
-	puts(t, c, key, a, 4)
+	puts(t, c, key, a, 2)
 	if c.Net().Len(r) != 0 || c.Net().Len(walk[1]) != 1 {
 		t.Error("a crash changes who is thought to be up")
 	}
@@ -462,23 +462,23 @@ func TestCompare(t *testing.T) {
 			}
 		}
 	}
-	ask := 0
+	begun := 0
 	for a := range 4 {
 		for b := range 4 {
 			if a == b {
 				tells(t, "with itself", c.Compare(a, b), api.ErrArg)
 				continue
 			}
-			ask += 2
+			begun++
 			tells(t, "Compare", c.Compare(a, b), api.OK)
-			waits(t, "Compare", c, b, msg.Msg{Kind: msg.Nodes, From: a, Ask: ask, At: []int{0}, Digests: [][32]byte{roots[a][b]}})
+			waits(t, "Compare", c, b, msg.Msg{Kind: msg.Nodes, From: a, Ask: otherAsk(begun), At: []int{0}, Digests: [][32]byte{roots[a][b]}})
 			clear(c)
-			_, e := c.Op(ask)
+			_, e := c.Op(otherAsk(begun))
 			tells(t, "Op of a comparison", e, api.ErrMiss)
 		}
 	}
 	empty(t, "Compare", c)
-	puts(t, c, key, s, ask+2)
+	puts(t, c, key, s, 2)
 }
 
 // P26.1: a comparison's messages, to its end: both have what one had.
@@ -518,10 +518,10 @@ func TestHand(t *testing.T) {
 	tells(t, "itself", c.Hand(r, r), api.ErrArg)
 	empty(t, "no hint", c)
 	tells(t, "Hand", c.Hand(r, whom), api.OK)
-	waits(t, "Hand", c, whom, store(r, 2, k1, s))
+	waits(t, "Hand", c, whom, store(r, otherAsk(1), k1, s))
 	tells(t, "Hand again", c.Hand(r, whom), api.OK)
-	waits(t, "Hand again", c, whom, store(r, 2, k1, s), store(r, 4, k1, s))
-	_, e := c.Op(2)
+	waits(t, "Hand again", c, whom, store(r, otherAsk(1), k1, s), store(r, otherAsk(2), k1, s))
+	_, e := c.Op(otherAsk(1))
 	tells(t, "Op of a delivery", e, api.ErrMiss)
 	tells(t, "Lose", c.Lose(whom, 0), api.OK)
 	holds(t, "it was lost", c, r, whom, k1, k2)
@@ -532,7 +532,7 @@ func TestHand(t *testing.T) {
 	c.Settle()
 	holds(t, "handed", c, r, whom)
 	tells(t, "all were", c.Hand(r, whom), api.ErrMiss)
-	gets(t, c, k1, 8)
+	gets(t, c, k1, 2)
 }
 
 // P26.1: a hint whose replica has no room stays, and may be handed again.
@@ -551,14 +551,14 @@ func TestHandFull(t *testing.T) {
 	clear(c)
 	tells(t, "Hand", c.Hand(r, whom), api.OK)
 	delivers(t, "Store", c, whom, api.OK)
-	waits(t, "no room", c, r, stored(whom, 2, api.ErrFull))
+	waits(t, "no room", c, r, stored(whom, otherAsk(1), api.ErrFull))
 	c.Settle()
 	holds(t, "no room", c, r, whom, key)
 	tells(t, "Hand", c.Hand(r, whom), api.OK)
-	waits(t, "again", c, whom, store(r, 4, key, s))
+	waits(t, "again", c, whom, store(r, otherAsk(2), key, s))
 }
 
-// P26.1: Compare and Hand: ErrArg, ErrDown of the one that begins, ErrMiss, ErrInbox: nothing is sent, nothing is under way, and no ask is used up.
+// P26.1: Compare and Hand: ErrArg, ErrMiss, ErrInbox, ErrDown of the one that begins, in this order: nothing is sent, nothing is under way, and no ask is used up.
 func TestBeginErrors(t *testing.T) {
 	c, key, walk := usualOne(t)
 	r, whom := walk[3], walk[0]
@@ -578,8 +578,8 @@ func TestBeginErrors(t *testing.T) {
 	fill(t, c, walk[1])
 	tells(t, "no hint for a full one", c.Hand(r, walk[1]), api.ErrMiss)
 	clear(c)
-	for ask := range 10 { // nothing is under way
-		sends(t, c, r, stored(whom, ask, api.OK))
+	for n := range 10 { // nothing is under way
+		sends(t, c, r, stored(whom, otherAsk(n), api.OK))
 		delivers(t, "Stored", c, r, api.OK)
 	}
 	holds(t, "refused", c, r, whom, key)
@@ -592,6 +592,11 @@ func TestBeginErrors(t *testing.T) {
 	blown(t, c, r)
 	tells(t, "Compare", c.Compare(r, whom), api.ErrDown)
 	tells(t, "Hand", c.Hand(r, whom), api.ErrDown)
+	tells(t, "down, and no hint", c.Hand(r, walk[1]), api.ErrMiss)
+	fill(t, c, whom)
+	tells(t, "down, and no room", c.Compare(r, whom), api.ErrInbox)
+	tells(t, "down, and no room", c.Hand(r, whom), api.ErrInbox)
+	clear(c)
 	tells(t, "itself", c.Compare(r, r), api.ErrArg)
 	tells(t, "itself", c.Hand(r, r), api.ErrArg)
 	tells(t, "nobody", c.Hand(r, 4), api.ErrArg)
@@ -600,11 +605,11 @@ func TestBeginErrors(t *testing.T) {
 	if n := c.Net().Len(r); n != 1 {
 		t.Errorf("%d messages, want 1", n)
 	}
-	gets(t, c, key, 6) // 2, 4 were the Compares that were begun
+	gets(t, c, key, 2)
 	tells(t, "Crash", c.Crash(r, nil), api.OK)
 	clear(c)
 	tells(t, "Hand", c.Hand(r, whom), api.OK)
-	waits(t, "opened anew", c, whom, store(r, 8, key, s))
+	waits(t, "opened anew", c, whom, store(r, otherAsk(3), key, s)) // two Compares were begun
 }
 
 // P26.1: a fuse alone isn't an ErrDown that was met.
