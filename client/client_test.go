@@ -469,6 +469,20 @@ func TestReadErrors(t *testing.T) {
 	}
 }
 
+// P27.1: what is sealed with a past of no bytes at all goes with no Past: neither with nothing, nor with what isn't a context.
+func TestReadNoPast(t *testing.T) {
+	for kind, v := range both() {
+		sealed, e := envelope.Seal(v, name, envelope.Head{Epoch: 1, Counter: 1, Dot: at(4, 1)}, []byte("x"), false)
+		if e != api.OK {
+			t.Fatal(e)
+		}
+		body, _ := envelope.Write(sealed)
+		for _, p := range []dot.Context{{}, past(at(1, 1)), {Upto: [16]int{-1}}, many(33)} {
+			reads(t, kind, made(t, 1, v), name, []sibling.Sibling{{Dot: at(4, 1), Past: p, Body: body}}, nil, 1, api.ErrAuth)
+		}
+	}
+}
+
 // P27.1: the values in the siblings' order, how many others there are, and the first one's error.
 func TestReadOrder(t *testing.T) {
 	for kind, v := range both() {

@@ -81,6 +81,23 @@ func TestSweepOfNone(t *testing.T) {
 	}
 }
 
+// P29.1: a later Get that came to nothing is none: what the one ahead of it told is swept.
+func TestSweepBehindTimeout(t *testing.T) {
+	s := made(t, usual())
+	does(t, s, put(1, name, "x", 0), settle(), get(1, name), settle(), rotate(2), get(2, name))
+	for range 6 {
+		does(t, s, script.Step{Kind: script.Tick})
+	}
+	does(t, s, settle(), get(1, other), settle(), get(3, name), sweeps(2, name))
+	r := s.Results()
+	if len(r) != 6 || r[2].Err != api.ErrTimeout || r[4].Done || !r[5].Put || string(r[5].Name) != string(name) {
+		t.Fatalf("%+v", r)
+	}
+	if o, _ := s.Cluster().Op(12); len(o.Set) != 1 || o.Set[0].Dot != at(2, 1) || !dot.Same(o.Set[0].Past, past(at(1, 1))) {
+		t.Errorf("%+v", o)
+	}
+}
+
 // P29.1: the last Get is that which began last, of those that are done without an error, whichever is done first.
 func TestSweepOfLast(t *testing.T) {
 	c := usual()
@@ -124,26 +141,38 @@ func TestSweepOfLast(t *testing.T) {
 	}
 }
 
-// gaps: client 1 writes a name so often, and each other write is lost, from the first one on.
-func gaps(t *testing.T, n int) *script.System {
+// loses: what waits first in each box.
+func loses(t *testing.T, s *script.System) {
+	t.Helper()
+	for b := range 3 {
+		does(t, s, script.Step{Kind: script.Lose, Box: b})
+	}
+}
+
+// gaps: a client writes a name so often, and each other write is lost, from the first one on.
+func gaps(t *testing.T, s *script.System, client int, name []byte, n int) {
+	t.Helper()
+	for range n {
+		does(t, s, put(client, name, "lost", 0))
+		loses(t, s)
+		does(t, s, put(client, name, "x", 0), settle())
+	}
+}
+
+// roomiest: the usual system, with room for many siblings.
+func roomiest(t *testing.T) *script.System {
 	t.Helper()
 	c := usual()
 	c.Cluster.Sectors = 8000
-	s := made(t, c)
-	for range n {
-		does(t, s, put(1, name, "lost", 0))
-		for b := range 3 {
-			does(t, s, script.Step{Kind: script.Lose, Box: b})
-		}
-		does(t, s, put(1, name, "x", 0), settle())
-	}
-	return s
+	return made(t, c)
 }
 
 // P29.1: what can't be said to be seen isn't swept: the error is told, there is no result, and the numbers of those ahead of it are used up.
 func TestSweepErrContext(t *testing.T) {
-	s := gaps(t, 32)
-	does(t, s, get(3, name), settle(), put(2, name, "lost", 0), script.Step{Kind: script.Lose, Box: 0}, script.Step{Kind: script.Lose, Box: 1}, script.Step{Kind: script.Lose, Box: 2})
+	s := roomiest(t)
+	gaps(t, s, 1, name, 32)
+	does(t, s, get(3, name), settle(), put(2, name, "lost", 0))
+	loses(t, s)
 	does(t, s, put(1, name, "fits", 0), settle(), put(2, name, "full", 1), settle(), get(3, name), settle())
 	got := values(s, 0)
 	if len(got) != 2 || got[0].Dot != at(1, 65) || got[1].Dot != at(2, 2) || len(got[1].Past.More) != 32 {
@@ -164,7 +193,8 @@ func TestSweepErrContext(t *testing.T) {
 
 // P29.1: a handle has as much of what the values are and have seen as there is room for: one by one, in their order, each dot ahead of its past.
 func TestHandleTooLarge(t *testing.T) {
-	s := gaps(t, 40)
+	s := roomiest(t)
+	gaps(t, s, 1, name, 40)
 	does(t, s, put(2, name, "y", 0), settle(), get(3, name), settle())
 	want := dot.Context{Upto: [16]int{1: 1}, More: evens(1, 2, 64)}
 	isContext(t, "33 and more", s, 1, want)
@@ -174,20 +204,31 @@ func TestHandleTooLarge(t *testing.T) {
 
 // P29.1: a past that closes a gap makes room for what comes behind it, but not for its own dot, nor for what was passed over ahead.
 func TestHandlePasts(t *testing.T) {
-	s := gaps(t, 33)
+	s := roomiest(t)
+	gaps(t, s, 1, name, 33)
 	does(t, s, put(1, other, "a", 0), settle(), get(2, other), settle())
 	isContext(t, "of the other name", s, 1, past(at(1, 1)))
 	for _, client := range []int{2, 3} {
 		does(t, s, put(client, name, "lost", 0))
-		for b := range 3 {
-			does(t, s, script.Step{Kind: script.Lose, Box: b})
-		}
+		loses(t, s)
 	}
 	does(t, s, put(2, name, "y", 1), put(3, name, "z", 0), settle(), get(1, name), settle())
 	if got := values(s, 0); len(got) != 35 || got[33].Dot != at(2, 2) || !dot.Same(got[33].Past, past(at(1, 1))) || got[34].Dot != at(3, 2) {
 		t.Fatalf("%+v", got)
 	}
 	isContext(t, "pasts", s, 2, dot.Context{Upto: [16]int{2}, More: append(evens(1, 4, 64), at(3, 2))})
+}
+
+// P29.1: a past that there is no room for is passed over; what was joined ahead of it stays.
+func TestHandlePastTooLarge(t *testing.T) {
+	s := roomiest(t)
+	gaps(t, s, 1, name, 32)
+	gaps(t, s, 2, other, 32)
+	does(t, s, get(1, name), get(1, other), settle(), put(2, name, "y", 1), put(3, name, "z", 2), settle(), get(1, name), settle())
+	if got := values(s, 0); len(got) != 2 || len(got[0].Past.More) != 32 || len(got[1].Past.More) != 32 {
+		t.Fatalf("%+v", got)
+	}
+	isContext(t, "two pasts", s, 3, dot.Context{Upto: [16]int{1: 1, 2: 1}, More: evens(1, 2, 64)})
 }
 
 // evens: dots of each other number.
