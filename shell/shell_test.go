@@ -167,3 +167,30 @@ func TestAllBytes(t *testing.T) {
 		t.Errorf("%d lines: %q", n, got)
 	}
 }
+
+// P32.1: the disks have 2000 sectors: a log of 63936 bytes. Each value of a key of its own takes 417 bytes, and its class.
+func TestSectors(t *testing.T) {
+	for _, x := range []struct {
+		sizes [4]int // how many values of each class, the largest first
+		fits  bool
+	}{
+		{[4]int{11, 0, 19, 3}, true}, // 63873
+		{[4]int{7, 2, 3, 57}, true},  // 63909
+		{[4]int{13, 3, 0, 2}, false}, // 63954
+		{[4]int{13, 2, 0, 5}, false}, // 63956
+	} {
+		var in, want []string
+		n := 0
+		for class, size := range []int{2000, 500, 100, 1} {
+			for range x.sizes[class] {
+				in = append(in, "put 1 "+strconv.Itoa(n)+" "+strings.Repeat("v", size)+" 0", "settle")
+				want = append(want, "ok", "ok", "put "+strconv.Itoa(n))
+				n++
+			}
+		}
+		if !x.fits {
+			want = want[:len(want)-1]
+		}
+		runs(t, "sectors", lines(in...), lines(want...))
+	}
+}
