@@ -124,7 +124,7 @@ func (x *twins) raw(box int) []byte {
 		return bytesOf(x.rng, x.rng.IntN(40))
 	}
 	b := seen[x.rng.IntN(len(seen))]
-	if x.rng.IntN(4) == 0 {
+	if len(b) > 0 && x.rng.IntN(4) == 0 {
 		b[x.rng.IntN(len(b))] ^= 1 << x.rng.IntN(8)
 		return b
 	}
