@@ -1,11 +1,13 @@
 package shell_test
 
 import (
+	"bytes"
 	"strconv"
 	"strings"
 	"testing"
 
 	"casket/shell"
+	"casket/vault"
 )
 
 // runs: lines, and what comes of them.
@@ -193,4 +195,27 @@ func TestSectors(t *testing.T) {
 		}
 		runs(t, "sectors", lines(in...), lines(want...))
 	}
+}
+
+// P32.1: the vault is an ideal one, whose keys all stand in one leaf. By a real one these names would stand in leaves below all nodes of a level, which are more than a message tells.
+func TestIdeal(t *testing.T) {
+	real := vault.Real([32]byte(bytes.Repeat([]byte{7}, 32)))
+	var nodes [64]bool
+	in, want := []string{"down 1"}, []string{"ok"}
+	count := 0
+	for n := 0; count < len(nodes); n++ {
+		name := strconv.Itoa(n)
+		key, _ := real.Blind([]byte(name))
+		if nodes[key[0]/4] {
+			continue
+		}
+		nodes[key[0]/4] = true
+		in, want = append(in, "put 1 "+name+" x 0", "settle"), append(want, "ok", "ok", "put "+strconv.Itoa(count))
+		count++
+	}
+	in, want = append(in, "up 1", "compare 0 1"), append(want, "ok", "ok")
+	for i := range 7 { // five levels down, and the rows of both
+		in, want = append(in, "deliver "+strconv.Itoa(1-i%2)+" 0"), append(want, "ok")
+	}
+	runs(t, "ideal", lines(append(in, "deliver 0 0", "deliver 1 0")...), lines(append(want, "error 7", "error 7")...))
 }
